@@ -167,15 +167,28 @@ func loadSafely(t *testing.T, program []api.Func) {
 
 // P1: the other calls end and do not panic at the ends of all numbers.
 func TestCallsNeverPanic(t *testing.T) {
-	c, _, _, _ := Load(sampleProgram())
-	for _, n := range []int{math.MinInt, -1, 0, 1, 2, 8, api.MaxFuel, math.MaxInt} {
-		events := []api.Event{{Step: n, Kind: n, N: n}}
-		c.Headers(n)
-		c.Run(n)
-		c.Look(n)
-		c.Shift(events, n)
-		c.Shift(nil, n)
-		c.Stop(events, n)
-		c.Stop(nil, n)
+	programs := [][]api.Func{sampleProgram(), fullProgram(), counter(), depths(25, ins(api.Nil)), main1(ins(api.Nil), ins(api.Len), ins(api.Return))}
+	for _, program := range programs {
+		c := loaded(t, program...)
+		for _, n := range []int{math.MinInt, -1, 0, 1, 2, 8, api.MaxFuel, api.MaxFuel + 1, math.MaxInt} {
+			callSafely(t, c, n)
+		}
 	}
+}
+
+func callSafely(t *testing.T, c *Code, n int) {
+	t.Helper()
+	defer func() {
+		if r := recover(); r != nil {
+			t.Errorf("a call with %d panics: %v", n, r)
+		}
+	}()
+	events := []api.Event{{Step: n, Kind: n, N: n}}
+	c.Headers(n)
+	c.Run(n)
+	c.Look(n)
+	c.Shift(events, n)
+	c.Shift(nil, n)
+	c.Stop(events, n)
+	c.Stop(nil, n)
 }

@@ -6,6 +6,8 @@ import (
 
 	"upshift/api"
 	"upshift/check"
+	"upshift/loop"
+	"upshift/machine"
 )
 
 // Code is a program in which nothing is wrong.
@@ -31,13 +33,22 @@ func copied(program []api.Func) []api.Func {
 }
 
 // Headers tells the heads of a function's loops (P4).
-func (c *Code) Headers(fun int) []int { return nil }
+func (c *Code) Headers(fun int) []int {
+	if fun < 0 || fun >= len(c.program) {
+		return nil
+	}
+	return loop.Heads(c.program[fun].Code)
+}
 
 // Run runs a program in the low gear (P5).
-func (c *Code) Run(fuel int) api.Outcome { return api.Outcome{} }
+func (c *Code) Run(fuel int) api.Outcome {
+	return machine.Run(c.program, fuel).Outcome()
+}
 
 // Look tells how a run stands (P6).
-func (c *Code) Look(fuel int) api.State { return api.State{} }
+func (c *Code) Look(fuel int) api.State {
+	return machine.Run(c.program, fuel).State()
+}
 
 // Shift runs a program in both gears (P7).
 func (c *Code) Shift(events []api.Event, fuel int) (api.Outcome, api.Counts, api.Errno) {
