@@ -1,4 +1,4 @@
-// Package check tells what is wrong with a program, and where.
+// Package check tells what is wrong with a program, and where; and whether events may be.
 package check
 
 import "upshift/api"

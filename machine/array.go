@@ -3,8 +3,8 @@ package machine
 import "upshift/api"
 
 // newArray holds the length against the room that is left: with the cells there are it could go beyond 64 bits.
-func (m *Machine) newArray(f *frame) {
-	length := integer(f.values.Pop())
+func (m *Machine) newArray(n api.Value) api.Value {
+	length := integer(n)
 	if length < 0 {
 		panic(trap(api.TrapIndex))
 	}
@@ -12,8 +12,8 @@ func (m *Machine) newArray(f *frame) {
 		panic(trap(api.TrapHeap))
 	}
 	m.cells += int(length)
-	f.values.Push(api.Value{Kind: api.IsArray, N: int64(len(m.arrays))})
 	m.arrays = append(m.arrays, make([]api.Value, length))
+	return api.Value{Kind: api.IsArray, N: int64(len(m.arrays) - 1)}
 }
 
 func (m *Machine) array(v api.Value) []api.Value {
@@ -23,10 +23,12 @@ func (m *Machine) array(v api.Value) []api.Value {
 	return m.arrays[v.N]
 }
 
-// cell pops an index and an array: both are popped ahead of a trap, and both kinds are looked at ahead of the index.
-func (m *Machine) cell(f *frame) *api.Value {
-	i := f.values.Pop()
-	a := f.values.Pop()
+func (m *Machine) length(a api.Value) api.Value {
+	return number(int64(len(m.array(a))))
+}
+
+// cell looks at both kinds ahead of the index.
+func (m *Machine) cell(a, i api.Value) *api.Value {
 	array, index := m.array(a), integer(i)
 	if index < 0 || index >= int64(len(array)) {
 		panic(trap(api.TrapIndex))

@@ -9,11 +9,14 @@ import (
 // Machine is a run, from its beginning to where it has ended.
 type Machine struct {
 	program []api.Func
+	events  []api.Event // that have not come
+	made    [][]stretch // of each function; of one that is not compiled nil
 	frames  stack.Stack[*frame]
 	arrays  [][]api.Value
 	cells   int // of all arrays together
 	printed []api.Value
 	steps   int
+	counts  api.Counts
 	end     int
 	gives   api.Value
 }
@@ -23,32 +26,39 @@ type frame struct {
 	fun, at int
 	locals  []api.Value
 	values  stack.Stack[api.Value]
+	code    []stretch // that it runs; in the low gear nil
 }
 
 // trap is what a step that is trapped panics with: how the run has ended.
 type trap int
 
-// Run does at most so many steps of a program.
+// Run does at most so many steps of a program, all of them in the low gear.
 func Run(program []api.Func, fuel int) *Machine {
-	m := &Machine{program: program}
+	return Shift(program, nil, fuel)
+}
+
+// Shift does at most so many steps of a program, in the gears that the events bring about.
+func Shift(program []api.Func, events []api.Event, fuel int) *Machine {
+	m := &Machine{program: program, events: events, made: make([][]stretch, len(program))}
 	m.newFrame(0, nil)
 	m.end = m.run(min(max(fuel, 0), api.MaxFuel))
 	return m
 }
 
-// run passes on a panic that is no trap: that would be a fault of the program's own, and no way for a run to end.
+// run lets events come ahead of asking for fuel: those of a step for which there is none come too. It passes on a panic that is no trap: that would be a fault of the program's own, and no way for a run to end.
 func (m *Machine) run(fuel int) (end int) {
 	defer func() {
 		switch met := recover().(type) {
 		case nil:
 		case trap:
 			end = int(met)
+			m.count(m.frames.Top(), 1)
 		default:
 			panic(met)
 		}
 	}()
-	for m.steps < fuel {
-		m.step()
+	for m.meet(); m.steps < fuel; m.meet() {
+		m.goOn(fuel)
 		if m.frames.Len() == 0 {
 			return api.Halted
 		}
@@ -56,63 +66,45 @@ func (m *Machine) run(fuel int) (end int) {
 	return api.Starved
 }
 
-// step moves the frame on last of all: one that is trapped stands where it was.
-func (m *Machine) step() {
-	m.steps++
+// goOn does a stretch only if it is over when the fuel ends and the next event comes: within it a frame cannot be stopped.
+func (m *Machine) goOn(fuel int) {
 	f := m.frames.Top()
-	ins := m.program[f.fun].Code[f.at]
-	switch ins.Op {
-	case api.Jump:
-		f.at = int(ins.A)
-	case api.Branch:
-		f.branch(int(ins.A))
-	case api.Call:
-		m.call(f, int(ins.A))
-	case api.Return:
-		m.giveBack(f)
-	default:
-		m.straight(f, ins)
-		f.at++
-	}
-}
-
-func (f *frame) branch(to int) {
-	v := f.values.Pop()
-	if v == (api.Value{}) || v == number(0) {
-		f.at = to
-	} else {
-		f.at++
-	}
-}
-
-func (m *Machine) call(f *frame, count int) {
-	args := make([]api.Value, count)
-	for i := range args {
-		args[count-1-i] = f.values.Pop()
-	}
-	callee := f.values.Pop()
-	if callee.Kind != api.IsFun || m.program[callee.N].Args != count {
-		panic(trap(api.TrapCall))
-	}
-	if m.frames.Len() >= api.MaxFrames {
-		panic(trap(api.TrapDeep))
-	}
-	f.at++
-	m.newFrame(int(callee.N), args)
-}
-
-func (m *Machine) newFrame(fun int, args []api.Value) {
-	locals := make([]api.Value, m.program[fun].Locals)
-	copy(locals, args)
-	m.frames.Push(&frame{fun: fun, locals: locals})
-}
-
-func (m *Machine) giveBack(f *frame) {
-	v := f.values.Pop()
-	m.frames.Pop()
-	if m.frames.Len() == 0 {
-		m.gives = v
+	if f.code != nil && f.code[f.at].steps <= m.free(fuel) {
+		f.code[f.at].do(m, f)
 		return
 	}
-	m.frames.Top().values.Push(v)
+	m.step(f)
+}
+
+// free tells how many steps there are until the fuel ends or an event comes.
+func (m *Machine) free(fuel int) int {
+	if len(m.events) > 0 {
+		fuel = min(fuel, m.events[0].Step)
+	}
+	return fuel - m.steps
+}
+
+func (m *Machine) step(f *frame) {
+	ins := m.program[f.fun].Code[f.at]
+	if turns(ins.Op) {
+		m.turn(f, ins)
+		m.count(f, 1)
+		return
+	}
+	m.straight(f, ins)
+	m.pass(f, 1)
+}
+
+// count is for steps that are done: one that is trapped is counted where the trap is caught.
+func (m *Machine) count(f *frame, steps int) {
+	m.steps += steps
+	if f.code != nil {
+		m.counts.High += steps
+	}
+}
+
+// pass moves a frame on behind instructions that are done: one that is trapped stands where it was.
+func (m *Machine) pass(f *frame, steps int) {
+	m.count(f, steps)
+	f.at += steps
 }

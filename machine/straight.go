@@ -10,28 +10,30 @@ func (m *Machine) straight(f *frame, ins api.Ins) {
 	case api.Nil:
 		f.values.Push(api.Value{})
 	case api.Fun:
-		f.values.Push(api.Value{Kind: api.IsFun, N: ins.A})
+		f.values.Push(function(ins.A))
 	case api.Load:
 		f.values.Push(f.locals[ins.A])
 	case api.Store:
 		f.locals[ins.A] = f.values.Pop()
 	case api.Add, api.Sub, api.Mul, api.Div, api.Less:
-		f.reckon(ins.Op)
+		a, b := f.popTwo()
+		f.values.Push(reckoned(rule(ins.Op), a, b))
 	case api.Equal:
-		b := f.values.Pop()
-		a := f.values.Pop()
-		f.values.Push(number(truth(a == b)))
+		a, b := f.popTwo()
+		f.values.Push(equal(a, b))
 	case api.New:
-		m.newArray(f)
+		f.values.Push(m.newArray(f.values.Pop()))
 	case api.Len:
-		f.values.Push(number(int64(len(m.array(f.values.Pop())))))
+		f.values.Push(m.length(f.values.Pop()))
 	case api.Get:
-		f.values.Push(*m.cell(f))
+		a, i := f.popTwo()
+		f.values.Push(*m.cell(a, i))
 	case api.Set:
 		v := f.values.Pop()
-		*m.cell(f) = v
+		a, i := f.popTwo()
+		*m.cell(a, i) = v
 	case api.Print:
-		m.printed = append(m.printed, f.values.Pop())
+		m.print(f.values.Pop())
 	case api.Pop:
 		f.values.Pop()
 	case api.Dup:
@@ -39,24 +41,29 @@ func (m *Machine) straight(f *frame, ins api.Ins) {
 	}
 }
 
-func (f *frame) reckon(op int) {
-	b := f.values.Pop()
-	a := f.values.Pop()
-	f.values.Push(number(result(op, integer(a), integer(b))))
+func (f *frame) popTwo() (a, b api.Value) {
+	b = f.values.Pop()
+	a = f.values.Pop()
+	return a, b
 }
 
-func result(op int, a, b int64) int64 {
+func (m *Machine) print(v api.Value) {
+	m.printed = append(m.printed, v)
+}
+
+// rule is how an instruction reckons. The low gear asks for it at each step, compiled code has asked when it was made.
+func rule(op int) func(a, b int64) int64 {
 	switch op {
 	case api.Add:
-		return a + b
+		return func(a, b int64) int64 { return a + b }
 	case api.Sub:
-		return a - b
+		return func(a, b int64) int64 { return a - b }
 	case api.Mul:
-		return a * b
+		return func(a, b int64) int64 { return a * b }
 	case api.Div:
-		return quotient(a, b)
+		return quotient
 	}
-	return truth(a < b)
+	return func(a, b int64) int64 { return truth(a < b) }
 }
 
 // quotient may leave the least number by -1 to the language: there too it is itself.
@@ -67,8 +74,20 @@ func quotient(a, b int64) int64 {
 	return a / b
 }
 
+func reckoned(rule func(a, b int64) int64, a, b api.Value) api.Value {
+	return number(rule(integer(a), integer(b)))
+}
+
+func equal(a, b api.Value) api.Value {
+	return number(truth(a == b))
+}
+
 func number(n int64) api.Value {
 	return api.Value{Kind: api.IsInt, N: n}
+}
+
+func function(n int64) api.Value {
+	return api.Value{Kind: api.IsFun, N: n}
 }
 
 func integer(v api.Value) int64 {

@@ -27,3 +27,8 @@ func (m *Machine) State() api.State {
 	}
 	return s
 }
+
+// Counts tells what was done in the high gear, and how often frames changed theirs.
+func (m *Machine) Counts() api.Counts {
+	return m.counts
+}

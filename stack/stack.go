@@ -1,8 +1,6 @@
 // Package stack: what was pushed last is popped first.
 package stack
 
-import "slices"
-
 // Stack is of values, or of frames.
 type Stack[T any] struct {
 	items []T
@@ -31,7 +29,7 @@ func (s *Stack[T]) Len() int {
 	return len(s.items)
 }
 
-// List tells them from the bottom on, as a copy: it goes out, and may be written into there.
+// List tells them from the bottom on, as a copy: it goes out, and may be written into there. Of none it is nil: nothing tells what was there and is gone.
 func (s *Stack[T]) List() []T {
-	return slices.Clone(s.items)
+	return append([]T(nil), s.items...)
 }

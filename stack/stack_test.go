@@ -56,9 +56,14 @@ func TestListIsACopy(t *testing.T) {
 	}
 }
 
+// Whether there ever was something on a stack is not to be seen.
 func TestListOfNothing(t *testing.T) {
 	var s Stack[*int]
-	if len(s.List()) != 0 || s.Len() != 0 {
-		t.Errorf("an empty stack has %v", s.List())
+	for range 2 {
+		if s.List() != nil || s.Len() != 0 {
+			t.Errorf("an empty stack has %v", s.List())
+		}
+		s.Push(nil)
+		s.Pop()
 	}
 }

@@ -67,7 +67,14 @@ func sameState(a, b api.State) bool {
 	return slices.EqualFunc(a.Frames, b.Frames, sameFrame) && slices.EqualFunc(a.Arrays, b.Arrays, slices.Equal[[]api.Value])
 }
 
+// wantRun holds both gears against an outcome.
 func wantRun(t *testing.T, name string, c *Code, fuel int, want api.Outcome) {
+	t.Helper()
+	wantLow(t, name, c, fuel, want)
+	wantHigh(t, name, c, fuel, want)
+}
+
+func wantLow(t *testing.T, name string, c *Code, fuel int, want api.Outcome) {
 	t.Helper()
 	if got := c.Run(fuel); !sameOutcome(got, want) {
 		t.Errorf("%s: Run(%d) = %+v, want %+v", name, fuel, got, want)

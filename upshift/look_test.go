@@ -90,14 +90,15 @@ func TestLookBehindBranch(t *testing.T) {
 	}
 }
 
-// wantTrap runs an instruction on some values, with others below them: it must be trapped at that instruction, with just those values popped.
+// wantTrap runs an instruction on some values, with others below them: it must be trapped at that instruction, with just those values popped; in both gears, and in stretches from each instruction on.
 func wantTrap(t *testing.T, end int, op api.Ins, values ...api.Value) {
 	t.Helper()
 	below := vals(num(41), num(42))
 	code := joined([]api.Ins{ins(api.Const, 40), ins(api.Store, 1)}, pushed(below...), pushed(values...),
 		[]api.Ins{op, ins(api.Nil), ins(api.Return)})
 	at := len(code) - 3
-	c := loaded(t, fn(0, 2, code...), plain(), fn(1, 1, ins(api.Nil), ins(api.Return)))
+	program := []api.Func{fn(0, 2, code...), plain(), fn(1, 1, ins(api.Nil), ins(api.Return))}
+	c := loaded(t, program...)
 	want := stands(frame(0, at, vals(api.Value{}, num(40)), below))
 	for _, v := range values {
 		if v.Kind == api.IsArray {
@@ -110,6 +111,10 @@ func wantTrap(t *testing.T, end int, op api.Ins, values ...api.Value) {
 	}
 	if got := c.Look(at); len(got.Frames) != 1 || len(got.Frames[0].Stack) != len(below)+len(values) || got.Frames[0].At != at {
 		t.Errorf("ahead of the trap: %+v", got)
+	}
+	program = headed(program)
+	for cut := range at + 1 {
+		wantTrace(t, "trapped", program, append(wholly(program), enter(cut)), at+2)
 	}
 }
 

@@ -56,12 +56,27 @@ func overwrite[T comparable](lists [][]T, mark func(k int) T) bool {
 	return true
 }
 
-// P2: the lists of Run and Look are new memory, spare room too: no two of them share any, and no later answer changes with them.
+// shifted is the outcome of a full program that is run in both gears.
+func shifted(t *testing.T, c *Code, fuel int) api.Outcome {
+	t.Helper()
+	outcome, _, err := c.Shift(fullEvents(), fuel)
+	if err != api.OK {
+		t.Errorf("Shift = %d", err)
+	}
+	return outcome
+}
+
+// fullEvents: function 1 of a full program is in the high gear but for a few of its steps.
+func fullEvents() []api.Event {
+	return script(compile(0, 0), compile(0, 1), enter(2), exit(30), enter(33), drop(51, 0), enter(51))
+}
+
+// P2: the lists of Run, Look and Shift are new memory, spare room too: no two of them share any, and no later answer changes with them.
 func TestAnswersAreNewMemory(t *testing.T) {
 	c := loaded(t, fullProgram()...)
 	for fuel := range 61 {
 		states := []api.State{c.Look(fuel), c.Look(fuel)}
-		outcomes := []api.Outcome{c.Run(fuel), c.Run(fuel)}
+		outcomes := []api.Outcome{c.Run(fuel), shifted(t, c, fuel), c.Run(fuel), shifted(t, c, fuel)}
 		want, wantOut := copyState(states[0]), outcomes[0]
 		wantOut.Out = slices.Clone(wantOut.Out)
 		if !overwrite(valueLists(states, outcomes), func(k int) api.Value { return api.Value{Kind: 100 + k, N: -9} }) {
@@ -73,6 +88,9 @@ func TestAnswersAreNewMemory(t *testing.T) {
 		}
 		wantLook(t, "behind writing", c, fuel, want)
 		wantRun(t, "behind writing", c, fuel, wantOut)
+		if got := shifted(t, c, fuel); !sameOutcome(got, wantOut) {
+			t.Errorf("behind writing: Shift(%d) = %+v, want %+v", fuel, got, wantOut)
+		}
 	}
 	if s := c.Look(60); len(s.Frames) != 2 || len(s.Arrays) != 2 || len(c.Run(60).Out) < 10 {
 		t.Errorf("the program does not fill every list: %+v", s)
@@ -126,6 +144,9 @@ func TestAnswersStayWithTheirProgram(t *testing.T) {
 	own := loaded(t, fullProgram()...)
 	wantRun(t, "behind writing", c, 60, own.Run(60))
 	wantLook(t, "behind writing", c, 60, own.Look(60))
+	if got, want := shifted(t, c, 60), own.Run(60); !sameOutcome(got, want) {
+		t.Errorf("behind writing: Shift = %+v, want %+v", got, want)
+	}
 	if got := c.Headers(1); !slices.Equal(got, []int{2, 5, 6}) {
 		t.Errorf("Headers(1) = %v", got)
 	}
@@ -136,11 +157,16 @@ func TestRunsLeaveNothingBehind(t *testing.T) {
 	codes := []*Code{loaded(t, fullProgram()...), loaded(t, countdown()), loaded(t, squares()...), loaded(t, depths(25, ins(api.Nil))...)}
 	fuels := []int{100, 0, 31, 7, 20, 60}
 	type answer struct {
-		outcome api.Outcome
-		state   api.State
-		heads   []int
+		outcome, shifted api.Outcome
+		counts           api.Counts
+		state            api.State
+		heads            []int
 	}
-	ask := func(c *Code, fuel int) answer { return answer{c.Run(fuel), c.Look(fuel), c.Headers(0)} }
+	events := script(compile(0, 0), enter(2), exit(12), enter(16), drop(18, 0))
+	ask := func(c *Code, fuel int) answer {
+		shifted, counts, _ := c.Shift(events, fuel)
+		return answer{c.Run(fuel), shifted, counts, c.Look(fuel), c.Headers(0)}
+	}
 	var first []answer
 	for _, c := range codes {
 		for _, fuel := range fuels {
@@ -150,7 +176,7 @@ func TestRunsLeaveNothingBehind(t *testing.T) {
 	check := func() {
 		for k, want := range slices.Backward(first) {
 			got := ask(codes[k/len(fuels)], fuels[k%len(fuels)])
-			if !sameOutcome(got.outcome, want.outcome) || !sameState(got.state, want.state) || !slices.Equal(got.heads, want.heads) {
+			if !sameOutcome(got.outcome, want.outcome) || !sameOutcome(got.shifted, want.shifted) || got.counts != want.counts || !sameState(got.state, want.state) || !slices.Equal(got.heads, want.heads) {
 				t.Errorf("call %d: %+v, then %+v", k, want, got)
 			}
 		}
@@ -158,6 +184,63 @@ func TestRunsLeaveNothingBehind(t *testing.T) {
 	var group sync.WaitGroup
 	for range 4 {
 		group.Go(check)
+	}
+	group.Wait()
+}
+
+// spareEvents lays events out with filled spare room behind them, and gives all of their memory too.
+func spareEvents(events []api.Event) (laid, whole []api.Event) {
+	whole = append(slices.Clone(events), api.Event{Step: 71, Kind: 72, N: 73}, exit(0), compile(0, 0))
+	return whole[:len(events)], whole
+}
+
+// P2: Shift writes neither into the events nor into their spare room, and does not look there.
+func TestShiftWritesNothing(t *testing.T) {
+	c := loaded(t, fullProgram()...)
+	for k, events := range append(wrongEvents(), fullEvents(), nil, slices.Repeat(script(compile(0, 0), drop(0, 0)), 100)) {
+		for _, fuel := range []int{0, 30, 60, 999} {
+			outcome, counts, err := c.Shift(slices.Clip(events), fuel)
+			laid, whole := spareEvents(events)
+			before := slices.Clone(whole)
+			again, countsAgain, errAgain := c.Shift(laid, fuel)
+			if !slices.Equal(whole, before) {
+				t.Errorf("list %d: Shift changed what was handed in", k)
+			}
+			if !sameOutcome(again, outcome) || countsAgain != counts || errAgain != err {
+				t.Errorf("list %d: %+v, %+v, %d, with spare room %+v, %+v, %d", k, outcome, counts, err, again, countsAgain, errAgain)
+			}
+		}
+	}
+}
+
+// P2: no events are kept: what was compiled in one call is not in the next, and the caller may write into them.
+func TestShiftKeepsNothing(t *testing.T) {
+	c := loaded(t, countdown())
+	events := script(compile(0, 0), enter(9), exit(12))
+	wantShift(t, "first", c, events, 99, api.Counts{High: 3, Ups: 1, Downs: 1})
+	wantShift(t, "not compiled", c, script(enter(9)), 99, api.Counts{})
+	wantShift(t, "none", c, nil, 99, api.Counts{})
+	clear(events)
+	wantShift(t, "again", c, script(compile(0, 0), enter(9)), 99, api.Counts{High: 18, Ups: 1})
+	c.Shift(events, 99)
+	wantShift(t, "behind an error", c, script(enter(9)), 99, api.Counts{})
+}
+
+// P2: an answer of Shift hangs on no other call, also on none at the same time.
+func TestShiftsAtTheSameTime(t *testing.T) {
+	c := loaded(t, mixed()...)
+	var group sync.WaitGroup
+	for k := range 8 {
+		group.Go(func() {
+			for step := range 60 {
+				events := append(wholly(mixed()), drop(step, k%2), compile(step+k, k%2), enter(step+k))
+				want := trace(mixed(), events, 99)
+				outcome, counts, _ := c.Shift(events, 99)
+				if last := want[len(want)-1]; counts != last.counts || !sameOutcome(outcome, last.outcome) {
+					t.Errorf("Shift(%v) = %+v, %+v", events, outcome, counts)
+				}
+			}
+		})
 	}
 	group.Wait()
 }

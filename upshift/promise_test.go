@@ -183,12 +183,28 @@ func callSafely(t *testing.T, c *Code, n int) {
 			t.Errorf("a call with %d panics: %v", n, r)
 		}
 	}()
-	events := []api.Event{{Step: n, Kind: n, N: n}}
 	c.Headers(n)
 	c.Run(n)
 	c.Look(n)
-	c.Shift(events, n)
-	c.Shift(nil, n)
-	c.Stop(events, n)
-	c.Stop(nil, n)
+	shiftSafely(t, c, nil, n)
+	shiftSafely(t, c, script(api.Event{Step: n, Kind: n, N: n}), n)
+	for kind := range 6 {
+		shiftSafely(t, c, script(compile(0, 0), enter(0), api.Event{Step: n, Kind: kind, N: n}), n)
+		shiftSafely(t, c, slices.Repeat(script(api.Event{Step: n, Kind: kind}), 200), n)
+	}
+}
+
+// shiftSafely holds P1's form: with an error nothing else.
+func shiftSafely(t *testing.T, c *Code, events []api.Event, fuel int) {
+	t.Helper()
+	outcome, counts, err := c.Shift(events, fuel)
+	c.Stop(events, fuel)
+	switch {
+	case err != api.OK && err != api.ErrEvent:
+		t.Errorf("Shift(%v, %d): no error of Shift: %d", events, fuel, err)
+	case err == api.OK && !sameOutcome(outcome, c.Run(fuel)):
+		t.Errorf("Shift(%v, %d) = %+v, want %+v", events, fuel, outcome, c.Run(fuel))
+	case err != api.OK && (!sameOutcome(outcome, api.Outcome{}) || counts != (api.Counts{})):
+		t.Errorf("Shift(%v, %d) = %+v, %+v, %d", events, fuel, outcome, counts, err)
+	}
 }

@@ -52,7 +52,11 @@ func (c *Code) Look(fuel int) api.State {
 
 // Shift runs a program in both gears (P7).
 func (c *Code) Shift(events []api.Event, fuel int) (api.Outcome, api.Counts, api.Errno) {
-	return api.Outcome{}, api.Counts{}, api.OK
+	if err := check.Events(events, len(c.program)); err != api.OK {
+		return api.Outcome{}, api.Counts{}, err
+	}
+	m := machine.Shift(c.program, events, fuel)
+	return m.Outcome(), m.Counts(), api.OK
 }
 
 // Stop tells how such a run stands (P8).
