@@ -88,6 +88,25 @@ func wantLook(t *testing.T, name string, c *Code, fuel int, want api.State) {
 	}
 }
 
+// wantStop holds how a run in both gears stands against a state.
+func wantStop(t *testing.T, name string, c *Code, events []api.Event, fuel int, want api.State) {
+	t.Helper()
+	if got, err := c.Stop(events, fuel); err != api.OK || !sameState(got, want) {
+		t.Errorf("%s: Stop(%v, %d) = %+v, %d, want %+v", name, events, fuel, got, err, want)
+	}
+}
+
+// wantState holds both gears against a state: the low one, the high one alone, and the low one with calls in the high one.
+func wantState(t *testing.T, name string, c *Code, fuel int, want api.State) {
+	t.Helper()
+	wantLook(t, name, c, fuel, want)
+	wantStop(t, name, c, compileAll(c.program), fuel, want)
+	if len(c.program[0].Code) < api.MaxCode {
+		program := headed(c.program)
+		wantStop(t, name, loaded(t, program...), wholly(program), fuel, want)
+	}
+}
+
 // ofValue is the instructions that push a value of each kind; an array is the next new one, of two cells.
 func ofValue(v api.Value) []api.Ins {
 	switch v.Kind {

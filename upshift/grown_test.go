@@ -7,7 +7,6 @@ import (
 	"testing"
 
 	"upshift/api"
-	"upshift/machine"
 )
 
 // grownPrograms and grownFuel: so many that each end comes often.
@@ -87,7 +86,7 @@ func growEvents(r *rand.Rand, program []api.Func, heads []int) []api.Event {
 	return events
 }
 
-// P7: grown programs with grown events, against the model: outcome and counts, and how the machine stands.
+// P7 and P8: grown programs with grown events, against the model: outcome, counts, and how the run stands.
 func TestGrownShiftsAgainstTheModel(t *testing.T) {
 	ends, sum := map[int]int{}, api.Counts{}
 	for seed := range uint64(grownPrograms) {
@@ -102,9 +101,9 @@ func TestGrownShiftsAgainstTheModel(t *testing.T) {
 			for _, fuel := range []int{r.IntN(last + 1), r.IntN(last + 1), last, last + 1} {
 				want := all[min(fuel, last)]
 				outcome, counts, err := c.Shift(events, min(fuel, grownFuel))
-				state := machine.Shift(c.program, events, min(fuel, grownFuel)).State()
-				if err != api.OK || counts != want.counts || !sameOutcome(outcome, want.outcome) || !sameState(state, want.state) {
-					t.Fatalf("seed %d: %v: Shift(%v, %d) = %+v, %+v, %d, %+v, want %+v, %+v, %+v", seed, program, events, fuel, outcome, counts, err, state, want.outcome, want.counts, want.state)
+				state, errStop := c.Stop(events, min(fuel, grownFuel))
+				if err != api.OK || errStop != api.OK || counts != want.counts || !sameOutcome(outcome, want.outcome) || !sameState(state, want.state) {
+					t.Fatalf("seed %d: %v: Shift(%v, %d) = %+v, %+v, %d, Stop = %+v, %d, want %+v, %+v, %+v", seed, program, events, fuel, outcome, counts, err, state, errStop, want.outcome, want.counts, want.state)
 				}
 			}
 			sum.High += all[last].counts.High

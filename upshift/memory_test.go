@@ -66,16 +66,26 @@ func shifted(t *testing.T, c *Code, fuel int) api.Outcome {
 	return outcome
 }
 
+// stopped is how a full program that is run in both gears stands.
+func stopped(t *testing.T, c *Code, fuel int) api.State {
+	t.Helper()
+	state, err := c.Stop(fullEvents(), fuel)
+	if err != api.OK {
+		t.Errorf("Stop = %d", err)
+	}
+	return state
+}
+
 // fullEvents: function 1 of a full program is in the high gear but for a few of its steps.
 func fullEvents() []api.Event {
 	return script(compile(0, 0), compile(0, 1), enter(2), exit(30), enter(33), drop(51, 0), enter(51))
 }
 
-// P2: the lists of Run, Look and Shift are new memory, spare room too: no two of them share any, and no later answer changes with them.
+// P2: the lists of Run, Look, Shift and Stop are new memory, spare room too: no two of them share any, and no later answer changes with them.
 func TestAnswersAreNewMemory(t *testing.T) {
 	c := loaded(t, fullProgram()...)
 	for fuel := range 61 {
-		states := []api.State{c.Look(fuel), c.Look(fuel)}
+		states := []api.State{c.Look(fuel), stopped(t, c, fuel), c.Look(fuel), stopped(t, c, fuel)}
 		outcomes := []api.Outcome{c.Run(fuel), shifted(t, c, fuel), c.Run(fuel), shifted(t, c, fuel)}
 		want, wantOut := copyState(states[0]), outcomes[0]
 		wantOut.Out = slices.Clone(wantOut.Out)
@@ -86,7 +96,8 @@ func TestAnswersAreNewMemory(t *testing.T) {
 			clear(room(s.Frames))
 			clear(room(s.Arrays))
 		}
-		wantLook(t, "behind writing", c, fuel, want)
+		wantState(t, "behind writing", c, fuel, want)
+		wantStop(t, "behind writing", c, fullEvents(), fuel, want)
 		wantRun(t, "behind writing", c, fuel, wantOut)
 		if got := shifted(t, c, fuel); !sameOutcome(got, wantOut) {
 			t.Errorf("behind writing: Shift(%d) = %+v, want %+v", fuel, got, wantOut)
@@ -100,17 +111,22 @@ func TestAnswersAreNewMemory(t *testing.T) {
 // P2: neither do the lists of frames and of arrays of two answers share memory.
 func TestFramesAndArraysAreNewMemory(t *testing.T) {
 	c := loaded(t, fullProgram()...)
-	first, second := c.Look(60), c.Look(60)
-	want := copyState(second)
-	for i := range room(first.Frames) {
-		room(first.Frames)[i] = frame(-1, -1, nil, nil)
+	answers := []api.State{c.Look(60), stopped(t, c, 60), c.Look(60), stopped(t, c, 60)}
+	want := copyState(answers[0])
+	for k, one := range answers {
+		for i := range room(one.Frames) {
+			room(one.Frames)[i] = frame(-1, -1, nil, nil)
+		}
+		for i := range room(one.Arrays) {
+			room(one.Arrays)[i] = vals(num(-1))
+		}
+		for _, other := range answers[k+1:] {
+			if !sameState(other, want) {
+				t.Fatalf("an answer changed with another one: %+v", other)
+			}
+		}
 	}
-	for i := range room(first.Arrays) {
-		room(first.Arrays)[i] = vals(num(-1))
-	}
-	if !sameState(second, want) {
-		t.Errorf("an answer changed with another one: %+v", second)
-	}
+	wantState(t, "behind writing", c, 60, want)
 }
 
 // P2: the lists of Headers likewise.
@@ -144,6 +160,7 @@ func TestAnswersStayWithTheirProgram(t *testing.T) {
 	own := loaded(t, fullProgram()...)
 	wantRun(t, "behind writing", c, 60, own.Run(60))
 	wantLook(t, "behind writing", c, 60, own.Look(60))
+	wantStop(t, "behind writing", c, fullEvents(), 60, own.Look(60))
 	if got, want := shifted(t, c, 60), own.Run(60); !sameOutcome(got, want) {
 		t.Errorf("behind writing: Shift = %+v, want %+v", got, want)
 	}
@@ -159,13 +176,14 @@ func TestRunsLeaveNothingBehind(t *testing.T) {
 	type answer struct {
 		outcome, shifted api.Outcome
 		counts           api.Counts
-		state            api.State
+		state, stopped   api.State
 		heads            []int
 	}
 	events := script(compile(0, 0), enter(2), exit(12), enter(16), drop(18, 0))
 	ask := func(c *Code, fuel int) answer {
 		shifted, counts, _ := c.Shift(events, fuel)
-		return answer{c.Run(fuel), shifted, counts, c.Look(fuel), c.Headers(0)}
+		stopped, _ := c.Stop(events, fuel)
+		return answer{c.Run(fuel), shifted, counts, c.Look(fuel), stopped, c.Headers(0)}
 	}
 	var first []answer
 	for _, c := range codes {
@@ -176,7 +194,9 @@ func TestRunsLeaveNothingBehind(t *testing.T) {
 	check := func() {
 		for k, want := range slices.Backward(first) {
 			got := ask(codes[k/len(fuels)], fuels[k%len(fuels)])
-			if !sameOutcome(got.outcome, want.outcome) || !sameOutcome(got.shifted, want.shifted) || got.counts != want.counts || !sameState(got.state, want.state) || !slices.Equal(got.heads, want.heads) {
+			ran := sameOutcome(got.outcome, want.outcome) && sameOutcome(got.shifted, want.shifted) && got.counts == want.counts
+			stood := sameState(got.state, want.state) && sameState(got.stopped, want.state) && sameState(want.stopped, want.state)
+			if !ran || !stood || !slices.Equal(got.heads, want.heads) {
 				t.Errorf("call %d: %+v, then %+v", k, want, got)
 			}
 		}
@@ -213,6 +233,25 @@ func TestShiftWritesNothing(t *testing.T) {
 	}
 }
 
+// P2: nor does Stop.
+func TestStopWritesNothing(t *testing.T) {
+	c := loaded(t, fullProgram()...)
+	for k, events := range append(wrongEvents(), fullEvents(), nil, slices.Repeat(script(compile(0, 0), drop(0, 0)), 100)) {
+		for _, fuel := range []int{0, 30, 60, 999} {
+			state, err := c.Stop(slices.Clip(events), fuel)
+			laid, whole := spareEvents(events)
+			before := slices.Clone(whole)
+			again, errAgain := c.Stop(laid, fuel)
+			if !slices.Equal(whole, before) {
+				t.Errorf("list %d: Stop changed what was handed in", k)
+			}
+			if !sameState(again, state) || errAgain != err {
+				t.Errorf("list %d: %+v, %d, with spare room %+v, %d", k, state, err, again, errAgain)
+			}
+		}
+	}
+}
+
 // P2: no events are kept: what was compiled in one call is not in the next, and the caller may write into them.
 func TestShiftKeepsNothing(t *testing.T) {
 	c := loaded(t, countdown())
@@ -220,13 +259,16 @@ func TestShiftKeepsNothing(t *testing.T) {
 	wantShift(t, "first", c, events, 99, api.Counts{High: 3, Ups: 1, Downs: 1})
 	wantShift(t, "not compiled", c, script(enter(9)), 99, api.Counts{})
 	wantShift(t, "none", c, nil, 99, api.Counts{})
+	c.Stop(events, 11)
+	wantShift(t, "not compiled by Stop", c, script(enter(9)), 99, api.Counts{})
 	clear(events)
 	wantShift(t, "again", c, script(compile(0, 0), enter(9)), 99, api.Counts{High: 18, Ups: 1})
 	c.Shift(events, 99)
+	c.Stop(events, 99)
 	wantShift(t, "behind an error", c, script(enter(9)), 99, api.Counts{})
 }
 
-// P2: an answer of Shift hangs on no other call, also on none at the same time.
+// P2: an answer of Shift or Stop hangs on no other call, also on none at the same time.
 func TestShiftsAtTheSameTime(t *testing.T) {
 	c := loaded(t, mixed()...)
 	var group sync.WaitGroup
@@ -236,6 +278,7 @@ func TestShiftsAtTheSameTime(t *testing.T) {
 				events := append(wholly(mixed()), drop(step, k%2), compile(step+k, k%2), enter(step+k))
 				want := trace(mixed(), events, 99)
 				outcome, counts, _ := c.Shift(events, 99)
+				wantStop(t, "at the same time", c, events, step, want[step].state)
 				if last := want[len(want)-1]; counts != last.counts || !sameOutcome(outcome, last.outcome) {
 					t.Errorf("Shift(%v) = %+v, %+v", events, outcome, counts)
 				}

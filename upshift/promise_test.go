@@ -198,8 +198,14 @@ func callSafely(t *testing.T, c *Code, n int) {
 func shiftSafely(t *testing.T, c *Code, events []api.Event, fuel int) {
 	t.Helper()
 	outcome, counts, err := c.Shift(events, fuel)
-	c.Stop(events, fuel)
+	state, errStop := c.Stop(events, fuel)
 	switch {
+	case errStop != err:
+		t.Errorf("Shift(%v, %d): %d, but Stop: %d", events, fuel, err, errStop)
+	case err == api.OK && !sameState(state, c.Look(fuel)):
+		t.Errorf("Stop(%v, %d) = %+v, want %+v", events, fuel, state, c.Look(fuel))
+	case err != api.OK && !sameState(state, api.State{}):
+		t.Errorf("Stop(%v, %d) = %+v, %d", events, fuel, state, errStop)
 	case err != api.OK && err != api.ErrEvent:
 		t.Errorf("Shift(%v, %d): no error of Shift: %d", events, fuel, err)
 	case err == api.OK && !sameOutcome(outcome, c.Run(fuel)):

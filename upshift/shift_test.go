@@ -6,19 +6,19 @@ import (
 	"testing"
 
 	"upshift/api"
-	"upshift/machine"
 )
 
-// wantShift holds Shift's counts against these, and its outcome against that of Run.
+// wantShift holds Shift's counts against these, its outcome against that of Run, and how such a run stands against Look.
 func wantShift(t *testing.T, name string, c *Code, events []api.Event, fuel int, want api.Counts) {
 	t.Helper()
 	outcome, counts, err := c.Shift(events, fuel)
 	if err != api.OK || counts != want || !sameOutcome(outcome, c.Run(fuel)) {
 		t.Errorf("%s: Shift(%v, %d) = %+v, %+v, %d, want %+v, %+v", name, events, fuel, outcome, counts, err, c.Run(fuel), want)
 	}
+	wantStop(t, name, c, events, fuel, c.Look(fuel))
 }
 
-// wantTrace holds Shift against the model at each fuel up to this one, and how the machine stands then too.
+// wantTrace holds Shift and Stop against the model at each fuel up to this one.
 func wantTrace(t *testing.T, name string, program []api.Func, events []api.Event, fuel int) {
 	t.Helper()
 	c := loaded(t, program...)
@@ -29,8 +29,8 @@ func wantTrace(t *testing.T, name string, program []api.Func, events []api.Event
 		if err != api.OK || counts != want.counts || !sameOutcome(outcome, want.outcome) {
 			t.Fatalf("%s: %v: Shift(%v, %d) = %+v, %+v, %d, want %+v, %+v", name, program, events, fuel, outcome, counts, err, want.outcome, want.counts)
 		}
-		if state := machine.Shift(c.program, events, fuel).State(); !sameState(state, want.state) {
-			t.Fatalf("%s: %v: behind Shift(%v, %d): %+v, want %+v", name, program, events, fuel, state, want.state)
+		if wantStop(t, name, c, events, fuel, want.state); t.Failed() {
+			t.Fatalf("%s: %v", name, program)
 		}
 	}
 }
@@ -44,11 +44,15 @@ func headed(program []api.Func) []api.Func {
 
 // wholly is the events by which a headed program is in the high gear from its first step on.
 func wholly(program []api.Func) []api.Event {
+	return append(compileAll(program), enter(0))
+}
+
+func compileAll(program []api.Func) []api.Event {
 	var events []api.Event
 	for fun := range program {
 		events = append(events, compile(0, fun))
 	}
-	return append(events, enter(0))
+	return events
 }
 
 // wantHigh runs a program in the high gear alone: the outcome is that of the low one.

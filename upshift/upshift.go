@@ -61,5 +61,8 @@ func (c *Code) Shift(events []api.Event, fuel int) (api.Outcome, api.Counts, api
 
 // Stop tells how such a run stands (P8).
 func (c *Code) Stop(events []api.Event, fuel int) (api.State, api.Errno) {
-	return api.State{}, api.OK
+	if err := check.Events(events, len(c.program)); err != api.OK {
+		return api.State{}, err
+	}
+	return machine.Shift(c.program, events, fuel).State(), api.OK
 }
